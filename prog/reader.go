@@ -1,102 +1,51 @@
 package prog
 
-import "forelock/api"
+import (
+	"forelock/api"
+	"forelock/words"
+)
 
-// reader goes over words, one behind the other. At what is met first it stays, and from then on it takes nothing, so that nobody has to ask behind each word.
-type reader struct {
-	words []api.Word
-	at    int
-	err   api.Errno
-}
-
-func (r *reader) prog() api.Prog {
+func readProg(r *words.Reader) api.Prog {
 	var p api.Prog
-	r.need(name("prog"))
-	p.Forever = r.take(name("forever"))
-	r.need(mark("{"))
-	p.Ops = r.ops()
-	r.need(mark("}"))
+	r.Need(words.Name("prog"))
+	p.Forever = r.Take(words.Name("forever"))
+	r.Need(words.Mark("{"))
+	p.Ops = readOps(r)
+	r.Need(words.Mark("}"))
 	return p
 }
 
-// ops answers the ops up to ahead of the }.
-func (r *reader) ops() []api.Op {
+// readOps answers the ops up to ahead of the }.
+func readOps(r *words.Reader) []api.Op {
 	var l []api.Op
-	for r.err == api.OK && r.next() != mark("}") {
+	for r.Goes() && r.Next() != words.Mark("}") {
 		// A word that begins no op isn't a 13th one: what can't go on is told of it, as of any other.
-		if len(l) == api.MaxOps && kindOf(r.next()) != 0 {
-			r.fail(api.ErrLong)
+		if len(l) == api.MaxOps && kindOf(r.Next()) != 0 {
+			r.Fail(api.ErrLong)
 		}
-		l = append(l, r.op())
+		l = append(l, readOp(r))
 	}
 	if len(l) == 0 {
-		r.fail(api.ErrNone)
+		r.Fail(api.ErrNone)
 	}
 	return l
 }
 
-func (r *reader) op() api.Op {
-	kind := kindOf(r.next())
+func readOp(r *words.Reader) api.Op {
+	kind := kindOf(r.Next())
 	if kind == 0 {
-		r.fail(api.ErrForm)
+		r.Fail(api.ErrForm)
 		return api.Op{}
 	}
 	s := shapeOf(kind)
 	op := api.Op{Kind: kind}
-	r.need(name(s.name))
+	r.Need(words.Name(s.name))
 	if s.numbers >= 1 {
-		op.A = r.number(s.a)
+		op.A = r.Number(s.a)
 	}
 	if s.numbers >= 2 {
-		op.B = r.number(s.b)
+		op.B = r.Number(s.b)
 	}
-	r.need(mark(";"))
+	r.Need(words.Mark(";"))
 	return op
-}
-
-// next answers the word that is ahead, without its place, so that it may be held against another; a word of no kind, if there is none any more.
-func (r *reader) next() api.Word {
-	if r.at >= len(r.words) {
-		return api.Word{}
-	}
-	w := r.words[r.at]
-	w.At = 0
-	return w
-}
-
-// take goes on behind w, if it is ahead.
-func (r *reader) take(w api.Word) bool {
-	if r.err != api.OK || r.next() != w {
-		return false
-	}
-	r.at++
-	return true
-}
-
-// need goes on behind w, which must be ahead.
-func (r *reader) need(w api.Word) {
-	if !r.take(w) {
-		r.fail(api.ErrForm)
-	}
-}
-
-// number goes on behind a number, which must be ahead and in that span, and answers it.
-func (r *reader) number(may span) int {
-	w := r.next()
-	if w != number(w.N) {
-		r.fail(api.ErrForm)
-	} else if !may.has(w.N) {
-		r.fail(api.ErrArg)
-	}
-	if !r.take(w) {
-		return 0
-	}
-	return w.N
-}
-
-// fail keeps why it can't go on, if nothing was met ahead of that.
-func (r *reader) fail(why api.Errno) {
-	if r.err == api.OK {
-		r.err = why
-	}
 }

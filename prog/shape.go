@@ -1,29 +1,23 @@
 package prog
 
-import "forelock/api"
+import (
+	"forelock/api"
+	"forelock/words"
+)
 
-// span is the numbers from least to most; that of a number which an op hasn't is left out, so that it has 0 alone.
-type span struct {
-	least, most int
-}
-
-func (s span) has(n int) bool {
-	return n >= s.least && n <= s.most
-}
-
-// shape is what ops of one kind are like: their first word, how many numbers stand behind it, and what A and B may be.
+// shape is what ops of one kind are like: their first word, how many numbers stand behind it, and what A and B may be; the span of a number that they haven't is left out, so that it has 0 alone.
 type shape struct {
 	name    string
 	numbers int
-	a, b    span
+	a, b    words.Span
 }
 
 // shapeOf answers the shape of ops of that kind, one without a name of other kinds.
 func shapeOf(kind int) shape {
-	lock := span{0, api.MaxLocks - 1}
+	lock := words.Span{Least: 0, Most: api.MaxLocks - 1}
 	switch kind {
 	case api.OpCompute:
-		return shape{name: "compute", numbers: 1, a: span{1, api.MaxTicks}}
+		return shape{name: "compute", numbers: 1, a: words.Span{Least: 1, Most: api.MaxTicks}}
 	case api.OpLock:
 		return shape{name: "lock", numbers: 1, a: lock}
 	case api.OpRead:
@@ -31,17 +25,17 @@ func shapeOf(kind int) shape {
 	case api.OpTry:
 		return shape{name: "try", numbers: 1, a: lock}
 	case api.OpTimed:
-		return shape{name: "timed", numbers: 2, a: lock, b: span{1, api.MaxSleep}}
+		return shape{name: "timed", numbers: 2, a: lock, b: words.Span{Least: 1, Most: api.MaxSleep}}
 	case api.OpUnlock:
 		return shape{name: "unlock", numbers: 1, a: lock}
 	case api.OpSleep:
-		return shape{name: "sleep", numbers: 1, a: span{1, api.MaxSleep}}
+		return shape{name: "sleep", numbers: 1, a: words.Span{Least: 1, Most: api.MaxSleep}}
 	case api.OpYield:
 		return shape{name: "yield"}
 	case api.OpSpawn:
-		return shape{name: "spawn", numbers: 1, a: span{0, api.MaxProgs - 1}}
+		return shape{name: "spawn", numbers: 1, a: words.Span{Least: 0, Most: api.MaxProgs - 1}}
 	case api.OpWeight:
-		return shape{name: "weight", numbers: 1, a: span{1, api.MaxWeight}}
+		return shape{name: "weight", numbers: 1, a: words.Span{Least: 1, Most: api.MaxWeight}}
 	case api.OpExit:
 		return shape{name: "exit"}
 	}
@@ -51,7 +45,7 @@ func shapeOf(kind int) shape {
 // kindOf answers the kind of the ops whose first word is w, 0 if w begins none.
 func kindOf(w api.Word) int {
 	for kind := api.OpCompute; kind <= api.OpExit; kind++ {
-		if w == name(Name(kind)) {
+		if w == words.Name(Name(kind)) {
 			return kind
 		}
 	}
@@ -60,30 +54,18 @@ func kindOf(w api.Word) int {
 
 func mayOp(op api.Op) bool {
 	s := shapeOf(op.Kind)
-	return s.name != "" && s.a.has(op.A) && s.b.has(op.B)
+	return s.name != "" && s.a.Has(op.A) && s.b.Has(op.B)
 }
 
 // opWords answers the words of an op that may be.
 func opWords(op api.Op) []api.Word {
 	s := shapeOf(op.Kind)
-	l := []api.Word{name(s.name)}
+	l := []api.Word{words.Name(s.name)}
 	if s.numbers >= 1 {
-		l = append(l, number(op.A))
+		l = append(l, words.Number(op.A))
 	}
 	if s.numbers >= 2 {
-		l = append(l, number(op.B))
+		l = append(l, words.Number(op.B))
 	}
-	return append(l, mark(";"))
-}
-
-func name(text string) api.Word {
-	return api.Word{Kind: api.WordName, Text: text}
-}
-
-func number(n int) api.Word {
-	return api.Word{Kind: api.WordNum, N: n}
-}
-
-func mark(text string) api.Word {
-	return api.Word{Kind: api.WordMark, Text: text}
+	return append(l, words.Mark(";"))
 }
