@@ -27,9 +27,14 @@ func (r *Reader) Goes() bool {
 	return r.err == api.OK
 }
 
+// Ends answers whether there is no word ahead any more.
+func (r *Reader) Ends() bool {
+	return r.at >= len(r.list)
+}
+
 // Next answers the word that is ahead, without its place, so that it may be held against another; a word of no kind, if there is none any more.
 func (r *Reader) Next() api.Word {
-	if r.at >= len(r.list) {
+	if r.Ends() {
 		return api.Word{}
 	}
 	w := r.list[r.at]
@@ -39,7 +44,7 @@ func (r *Reader) Next() api.Word {
 
 // Take goes on behind w, a word without a place, if it is ahead.
 func (r *Reader) Take(w api.Word) bool {
-	if !r.Goes() || r.at >= len(r.list) || r.Next() != w {
+	if !r.Goes() || r.Ends() || r.Next() != w {
 		return false
 	}
 	r.at++

@@ -103,6 +103,31 @@ func TestNext(t *testing.T) {
 	}
 }
 
+// The end is behind the last word, even if that is of no kind.
+func TestEnds(t *testing.T) {
+	for at := range 4 {
+		if got := words.Read(three(), at).Ends(); got != (at == 3) {
+			t.Errorf("Ends at %d of 3: %t", at, got)
+		}
+	}
+	for _, l := range [][]api.Word{nil, {}} {
+		if !words.Read(l, 0).Ends() {
+			t.Error("no words, and no end")
+		}
+	}
+	if words.Read([]api.Word{{}}, 0).Ends() {
+		t.Error("a word of no kind is the end")
+	}
+	r := words.Read(three(), 2)
+	r.Need(words.Mark("."))
+	if r.Ends() {
+		t.Error("a reader that stays ahead of a word is at the end")
+	}
+	if !words.Read(three(), -1).Ends() {
+		t.Error("a reader that begins nowhere has a word ahead")
+	}
+}
+
 func TestTake(t *testing.T) {
 	r := words.Read(three(), 0)
 	for _, w := range []api.Word{words.Name("core"), words.Mark("cores"), words.Number(2), {}} {
