@@ -1,4 +1,4 @@
-// Package words is no layer, but what those share that are told in words of a script (prog, setup, acts): it makes such words, and reads them one behind the other.
+// Package words is no layer, but what those share that are told in words of a script (prog, setup, acts, script): it makes such words, and reads them one behind the other.
 package words
 
 import "forelock/api"
