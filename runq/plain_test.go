@@ -28,6 +28,7 @@ type queue interface {
 	Weigh(id, w int) bool
 	Settle()
 	V(id int) (uint64, bool)
+	Weight(id int) (int, bool)
 	Current() (int, int, bool)
 	Floor() uint64
 	Len() int
@@ -195,6 +196,14 @@ func (p *plain) V(id int) (uint64, bool) {
 	return p.list[at].v, true
 }
 
+func (p *plain) Weight(id int) (int, bool) {
+	at := p.place(id)
+	if at < 0 {
+		return 0, false
+	}
+	return p.list[at].w, true
+}
+
 func (p *plain) Current() (int, int, bool) {
 	if p.current == nobody {
 		return nobody, 0, false
@@ -246,7 +255,7 @@ func reached(loop iter.Seq2[int, uint64], n int) []spot {
 	return l
 }
 
-// state is all that a queue tells of itself, but V of each number.
+// state is all that a queue tells of itself, but V and Weight of each number.
 type state struct {
 	current, ran     int
 	running, due     bool
@@ -289,6 +298,10 @@ func checkLike(t *testing.T, got, want queue) {
 		v, ok := got.V(id)
 		if w, is := want.V(id); v != w || ok != is {
 			t.Errorf("V(%d): %d, %t; want %d, %t", id, v, ok, w, is)
+		}
+		weight, ok := got.Weight(id)
+		if w, is := want.Weight(id); weight != w || ok != is {
+			t.Errorf("Weight(%d): %d, %t; want %d, %t", id, weight, ok, w, is)
 		}
 	}
 }
@@ -399,6 +412,15 @@ func (x *twin) current(id, ran int) {
 func (x *twin) v(id int, want uint64) {
 	x.Helper()
 	both(x, "V", func(q queue) vOk { v, ok := q.V(id); return vOk{v, ok} }, vOk{want, true})
+}
+
+func (x *twin) weight(id, want int, is bool) {
+	x.Helper()
+	type weighed struct {
+		w  int
+		ok bool
+	}
+	both(x, "Weight", func(q queue) weighed { w, ok := q.Weight(id); return weighed{w, ok} }, weighed{want, is})
 }
 
 func (x *twin) counts(n, load int) {

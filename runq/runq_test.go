@@ -564,6 +564,33 @@ func TestWeighNone(t *testing.T) {
 	x.counts(0, 0)
 }
 
+func TestWeight(t *testing.T) {
+	for _, c := range weights() {
+		x := newTwin(t, 2)
+		x.weight(3, 0, false)
+		x.add(3, 0, c[0], 0)
+		x.add(4, 0, 9, 0)
+		x.weight(3, c[1], true)
+		// Whether it is current, or ready, or has run: it weighs the same.
+		x.pick(3)
+		x.ticks(3, 3)
+		x.weight(3, c[1], true)
+		x.back(3)
+		x.weight(3, c[1], true)
+		x.weigh(4, c[0], true)
+		x.weight(4, c[1], true)
+		x.weigh(3, 5, true)
+		x.weight(3, 5, true)
+		x.pick(4)
+		x.weigh(4, 6, true)
+		x.weight(4, 6, true)
+		x.remove(4, 0, true)
+		for _, id := range []int{4, 0, -1, math.MinInt, math.MaxInt, 1<<32 + 3} {
+			x.weight(id, 0, false)
+		}
+	}
+}
+
 func TestSettle(t *testing.T) {
 	x := newTwin(t, 2)
 	x.settle(0)
@@ -624,6 +651,9 @@ func TestOfNil(t *testing.T) {
 		if v, ok := q.V(id); v != 0 || ok {
 			t.Errorf("V: %d, %t", v, ok)
 		}
+		if w, ok := q.Weight(id); w != 0 || ok {
+			t.Errorf("Weight: %d, %t", w, ok)
+		}
 		if q.Weigh(id, 3) {
 			t.Error("Weigh: true")
 		}
@@ -654,6 +684,9 @@ func TestOfZero(t *testing.T) {
 	}
 	if _, ok := q.Remove(1); ok {
 		t.Error("somebody was removed")
+	}
+	if w, ok := q.Weight(1); w != 0 || ok {
+		t.Errorf("Weight: %d, %t", w, ok)
 	}
 	if s := stateOf(&q); s != (state{current: nobody}) {
 		t.Errorf("it tells %+v", s)
